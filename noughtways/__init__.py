@@ -1,0 +1,1 @@
+"""Noughtways: products of tables that come to nought."""

@@ -1,0 +1,115 @@
+"""0.2: nothing handed in is changed, the same question has the same answer, what was told is handed in again."""
+
+import unittest
+
+from helper import FOUR, GREAT, LIMIT, ONE, THREE, TWO, kinds_in, no_tables_at_all, refusal, whatever
+from noughtways.errors import NoTable, NoTables, NoWay
+from noughtways.tables import along, is_nought, is_table, product, tables_wrong, turned
+
+NEAR = ((LIMIT - 1, 1 - LIMIT), (5, LIMIT - 1))
+
+
+def questions():
+    """Calls and what is handed to them, made anew each time."""
+    return [
+        (is_table, (TWO,)), (is_table, ([[1]],)), (is_table, (GREAT,)),
+        (tables_wrong, ([TWO, ((0, 1), (1, 0))],)), (tables_wrong, ([TWO, [1], {}],)), (tables_wrong, ({},)),
+        (product, (TWO, ((5, 6), (7, 8)))), (product, (FOUR, FOUR)), (product, (GREAT, NEAR)),
+        (along, ([TWO, GREAT], (0, 1, 0))), (along, ([NEAR], (0,) * 200)), (along, ([THREE] * 4, (3, 2))),
+        (is_nought, (ONE,)), (is_nought, (((0, 0), (0, 0)),)),
+        (turned, (TWO,)), (turned, (THREE,)), (turned, (GREAT,)),
+    ]
+
+
+class TestNothingIsChanged(unittest.TestCase):
+
+    def test_what_is_handed_in_stays(self):
+        for call, handed in questions():
+            ahead = kinds_in(handed)
+            call(*handed)
+            self.assertEqual(kinds_in(handed), ahead)
+
+    def test_whatever_is_handed_in_stays(self):
+        for call in (is_table, tables_wrong):
+            for thing in no_tables_at_all() + [[thing, TWO] for thing in whatever()]:
+                ahead = kinds_in(thing)
+                call(thing)
+                self.assertEqual(kinds_in(thing), ahead)
+
+    def test_what_is_done_to_the_list_behind_a_call_changes_nothing(self):
+        tables = [TWO, ((0, 1), (1, 0))]
+        told = along(tables, (0, 1))
+        tables[0] = THREE
+        tables.append(None)
+        self.assertEqual(told, ((2, 1), (4, 3)))
+        self.assertEqual(tables_wrong(tables), 1)
+        self.assertEqual(along([TWO, ((0, 1), (1, 0))], (0, 1)), told)
+
+
+class TestSameAnswer(unittest.TestCase):
+
+    def test_again_and_in_another_order(self):
+        told = [kinds_in(call(*handed)) for call, handed in questions()]
+        again = [kinds_in(call(*handed)) for call, handed in questions()]
+        back = [kinds_in(call(*handed)) for call, handed in reversed(questions())]
+        self.assertEqual(again, told)
+        self.assertEqual(back, told[::-1])
+
+    def test_with_refusals_in_between(self):
+        for call, handed in questions():
+            told = kinds_in(call(*handed))
+            refusal(self, NoTable, product, TWO, THREE)
+            refusal(self, NoTable, turned, [TWO])
+            refusal(self, NoTable, is_nought, None)
+            refusal(self, NoTables, along, [TWO, THREE], (0,))
+            refusal(self, NoWay, along, [TWO], (1,))
+            self.assertEqual(kinds_in(call(*handed)), told)
+
+    def test_refusals_again(self):
+        for often in range(3):
+            self.assertEqual(refusal(self, NoTables, along, [TWO, TWO, None], (0,)).at, 2)
+            self.assertEqual(refusal(self, NoTables, along, [], (0,)).at, -1)
+            self.assertEqual(along([TWO], (0,)), TWO)
+
+
+class TestHandedInAgain(unittest.TestCase):
+
+    def test_products_of_products(self):
+        told = ((10 ** 11,),)
+        figures = 11
+        for often in range(10):
+            told = product(told, told)
+            figures = 2 * figures
+            self.assertEqual(told, ((10 ** figures,),))
+        self.assertIs(is_nought(told), False)
+        self.assertEqual(turned(told), told)
+        self.assertIs(is_table(told), False)
+        self.assertEqual(tables_wrong([told]), 0)
+
+    def test_along_what_was_told(self):
+        great = along([((10 ** 11, 0), (1, 10 ** 11))], (0,) * 200)
+        self.assertEqual(great, ((10 ** 2200, 0), (200 * 10 ** 2189, 10 ** 2200)))
+        greater = along([TWO, great, turned(great)], (1,) * 3)
+        self.assertEqual(greater, ((10 ** 6600, 0), (600 * 10 ** 6589, 10 ** 6600)))
+        self.assertEqual(turned(greater), ((10 ** 6600, 600 * 10 ** 6589), (0, 10 ** 6600)))
+        self.assertEqual(product(great, great), along([great], (0, 0)))
+        self.assertIs(is_nought(greater), False)
+
+    def test_refusals_beside_very_great_numbers(self):
+        great = along([((10 ** 11, 0), (1, -(10 ** 11)))], (0,) * 200)
+        great = product(product(great, great), great)
+        refusal(self, NoTable, product, great, ONE)
+        refusal(self, NoTable, product, great + great, great)
+        refusal(self, NoWay, along, [great], (1,))
+        refusal(self, NoWay, along, [great], great[0])
+        self.assertEqual(refusal(self, NoTables, along, [great, great[0]], (0,)).at, 1)
+
+    def test_a_told_nought(self):
+        told = along([((0, LIMIT - 1), (0, 0))], (0, 0))
+        self.assertIs(is_nought(told), True)
+        self.assertIs(is_table(told), True)
+        self.assertEqual(product(told, NEAR), told)
+
+
+if __name__ == "__main__":
+    unittest.main()
