@@ -1,10 +1,10 @@
-"""What a whole number, a table, a list of tables and a way are, and the refusals of what is none.
+"""What the modules share: what is a whole number, a table, a list of tables, a way, and the refusals of what is none.
 
 A grid is what a table is but for how great its numbers are: tables that were told may have numbers
 beyond, and every function but is_table and tables_wrong lets them by.
 """
 
-from noughtways.errors import NoTable, NoTables, NoWay
+from noughtways.errors import Below, NoTable, NoTables, NoWay
 
 MOST_ROWS = 4
 MOST_TABLES = 4
@@ -54,10 +54,12 @@ def is_place(thing, many):
     return is_whole(thing) and thing >= 0 and thing < many
 
 
+def are_places(thing, many):
+    return isinstance(thing, tuple) and all([is_place(place, many) for place in thing])
+
+
 def is_way(thing, many):
-    if not isinstance(thing, tuple) or len(thing) < 1 or len(thing) > MOST_PLACES:
-        return False
-    return all([is_place(place, many) for place in thing])
+    return are_places(thing, many) and len(thing) >= 1 and len(thing) <= MOST_PLACES
 
 
 # The refusals' words hold no number of a table: one with very many figures can't be written out.
@@ -77,3 +79,9 @@ def need_tables(thing):
 def need_way(thing, many):
     if not is_way(thing, many):
         raise NoWay("this is no way of these tables")
+
+
+def need_none_below(tables):
+    for at in range(len(tables)):
+        if any([number < 0 for number in numbers_of(tables[at])]):
+            raise Below(at)

@@ -28,6 +28,10 @@ def row_times_columns(row, columns):
     return tuple([row_times_column(row, column) for column in columns])
 
 
+def row_times(row, table):
+    return row_times_columns(row, columns_of(table))
+
+
 def times(one, other):
     columns = columns_of(other)
     return tuple([row_times_columns(row, columns) for row in one])

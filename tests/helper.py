@@ -1,4 +1,9 @@
-"""What several test files need: things of every kind, and how a refusal is looked at."""
+"""What several test files need: things of every kind, drawn tables, and how a refusal is looked at."""
+
+import itertools
+import random
+
+from noughtways.errors import NoTable, NoTables
 
 LIMIT = 10 ** 12
 
@@ -59,3 +64,91 @@ def refusal(case, kind, call, *handed):
         case.assertEqual(kinds_in(handed), ahead)
         return error
     return case.fail(f"not refused, but told {kinds_in(told)!r}")
+
+
+def wrong_tables():
+    """Things that are no list of tables, each with the number that NoTables bears of it."""
+    told = [(thing, 0 if isinstance(thing, list) and 1 <= len(thing) <= 4 else -1) for thing in whatever()]
+    return told + [
+        (TWO, -1), ((TWO,), -1), ({0: TWO}, -1), ([TWO] * 5, -1), ([GREAT] * 5, -1),
+        ([((True, 0), (0, 1))], 0), ([[[1]]], 0), ([None, TWO], 0), ([TWO, 3], 1), ([ONE, TWO], 1),
+        ([TWO, THREE, None], 1), ([GREAT, [(1, 2), (3, 4)]], 1), ([GREAT, GREAT, None], 2),
+        ([TWO, TWO, ((0, False), (0, 0)), ONE], 2), ([TWO, GREAT, TWO, ONE], 3), ([FOUR, FOUR, FOUR, THREE], 3),
+    ]
+
+
+def refuses_tables(case, call, *behind):
+    """What is no list of tables is refused ahead of all that is handed in behind it."""
+    for tables, at in wrong_tables():
+        error = refusal(case, NoTables, call, tables, *behind)
+        case.assertEqual(error.at, at, tables)
+        case.assertIs(type(error.at), int)
+
+
+def refuses_table(case, call, *behind):
+    """What is no table is refused ahead of all that is handed in behind it."""
+    for thing in no_tables_at_all() + [[TWO], [ONE], (TWO,), ((1, 2, 3), (4, 5, 6))]:
+        refusal(case, NoTable, call, thing, *behind)
+
+
+def shut(rows):
+    return tuple([tuple(row) for row in rows])
+
+
+def drawer(seed):
+    """The same numbers each time, of a seed."""
+    return random.Random(seed)
+
+
+def drawn(draw, size, low, high):
+    """A table of numbers from low to high."""
+    return shut([[draw.randint(low, high) for k in range(size)] for row in range(size)])
+
+
+def times(one, other):
+    """The product by the words of 1.3, apart from the package's own."""
+    return shut([[sum(one[i][k] * other[k][j] for k in range(len(one))) for j in range(len(one))]
+                 for i in range(len(one))])
+
+
+def way_product(tables, way):
+    told = tables[way[0]]
+    for place in way[1:]:
+        told = times(told, tables[place])
+    return told
+
+
+def ways_of(many, places):
+    """All ways of so many places, as tuples rise."""
+    return list(itertools.product(range(many), repeat=places))
+
+
+def row_led(row, table):
+    return tuple([sum(row[i] * table[i][j] for i in range(len(row))) for j in range(len(row))])
+
+
+def units(size):
+    return [tuple([int(i == j) for j in range(size)]) for i in range(size)]
+
+
+def fading(draw, size, many):
+    """Tables all ways of which come to nought: noughts on and below the middle, seen by other lines."""
+    there, back = [list(row) for row in units(size)], [list(row) for row in units(size)]
+    for turn in range(size if size > 1 else 0):
+        one, other = draw.sample(range(size), 2)
+        often = draw.choice((-2, -1, 1, 2))
+        for k in range(size):
+            there[one][k] += often * there[other][k]
+            back[k][other] -= often * back[k][one]
+    tables = []
+    for at in range(many):
+        steps = [[draw.randint(-2, 2) if j > i else 0 for j in range(size)] for i in range(size)]
+        tables.append(times(times(shut(back), shut(steps)), shut(there)))
+    return tables
+
+
+def marked(table, i, j, number):
+    """The table with another number at (i, j)."""
+    rows = [list(row) for row in table]
+    rows[i][j] = number
+    return shut(rows)

@@ -29,6 +29,10 @@ EXPRESSIONS = (
     ast.JoinedStr, ast.FormattedValue, ast.Constant, ast.Attribute, ast.Subscript, ast.Name, ast.List, ast.Tuple,
     ast.Slice, ast.Set)
 PLAIN = (ast.Constant, ast.List, ast.Tuple, ast.Dict, ast.UnaryOp)
+WALKED = set("zip enumerate reversed range items keys values".split())
+WALKERS = set("list tuple dict sorted sum any all enumerate zip min max".split())
+KEYWORDS = {"sorted": {"key", "reverse"}, "min": {"key", "default"}, "max": {"key", "default"},
+            "sum": {"start"}, "enumerate": {"start"}, "zip": {"strict"}}
 
 
 def own_values(trees):
@@ -40,6 +44,13 @@ def own_values(trees):
         if isinstance(node, ast.Attribute) and isinstance(node.ctx, ast.Store):
             named.add(node.attr)
     return named
+
+
+def called(node):
+    """The name of what a node calls, None where it calls nothing."""
+    if not isinstance(node, ast.Call):
+        return None
+    return node.func.attr if isinstance(node.func, ast.Attribute) else getattr(node.func, "id", None)
 
 
 def bound_in(node):
@@ -97,6 +108,7 @@ class TestForm(unittest.TestCase):
                 self.assertEqual(node.orelse, [], where)
             if isinstance(node, ast.Assign):
                 self.assertEqual(len(node.targets), 1, where)
+                self.assertIsInstance(node.targets[0], (ast.Name, ast.Attribute, ast.Subscript), where)
             if isinstance(node, ast.Try):
                 self.assertEqual(node.finalbody, [], where)
             if isinstance(node, ast.Compare) and isinstance(node.ops[0], (ast.Is, ast.IsNot)):
@@ -105,6 +117,29 @@ class TestForm(unittest.TestCase):
             if isinstance(node, ast.ListComp):
                 self.assertEqual(len(node.generators), 1, where)
                 self.assertLessEqual(len(node.generators[0].ifs), 1, where)
+
+    def test_a_call_by_itself(self):
+        for file, tree in self.trees.items():
+            for node in ast.walk(tree):
+                if isinstance(node, ast.Expr) and node != tree.body[0]:
+                    self.assertIsInstance(node.value, ast.Call, f"{file.name}:{node.lineno}")
+
+    def test_sets_and_what_is_walked_at_once(self):
+        for where, above in self.walked():
+            for node in ast.iter_child_nodes(above):
+                if called(node) in WALKED:
+                    first = called(above) in WALKERS and above.args[0] == node
+                    behind_in = isinstance(above, (ast.For, ast.comprehension)) and above.iter == node
+                    self.assertTrue(first or behind_in, where)
+                if called(node) in ("set", "frozenset") or isinstance(node, ast.Set):
+                    within = called(above) in ("sorted", "len") and not above.keywords
+                    beside = isinstance(above, ast.Compare) and isinstance(above.ops[0], (ast.In, ast.Eq, ast.NotEq))
+                    self.assertTrue(within or beside or isinstance(above, ast.BinOp), where)
+
+    def test_keywords(self):
+        for where, node in self.walked():
+            if isinstance(node, ast.Call) and node.keywords:
+                self.assertLessEqual({word.arg for word in node.keywords}, KEYWORDS.get(called(node), set()), where)
 
     def test_functions(self):
         for where, node in self.walked():

@@ -3,10 +3,15 @@
 import unittest
 
 from helper import FOUR, GREAT, LIMIT, ONE, THREE, TWO, kinds_in, no_tables_at_all, refusal, whatever
-from noughtways.errors import NoTable, NoTables, NoWay
+from noughtways.allways import all_nought, first_left, stair_holds, stair_of
+from noughtways.errors import Below, NoTable, NoTables, NoWay
+from noughtways.orders import order_holds, order_of, ring_holds, ring_of
+from noughtways.ranks import determinant, line_of, lost, rank
 from noughtways.tables import along, is_nought, is_table, product, tables_wrong, turned
 
 NEAR = ((LIMIT - 1, 1 - LIMIT), (5, LIMIT - 1))
+RIGHT = ((0, 1), (0, 0))
+STAIR = [[(1, 0), (0, 1)], [(0, 1)]]
 
 
 def questions():
@@ -18,7 +23,33 @@ def questions():
         (along, ([TWO, GREAT], (0, 1, 0))), (along, ([NEAR], (0,) * 200)), (along, ([THREE] * 4, (3, 2))),
         (is_nought, (ONE,)), (is_nought, (((0, 0), (0, 0)),)),
         (turned, (TWO,)), (turned, (THREE,)), (turned, (GREAT,)),
+        (rank, (FOUR,)), (rank, (GREAT,)), (determinant, (NEAR,)), (determinant, (FOUR,)), (line_of, ((4, -6, 0),)),
+        (lost, (THREE,)), (lost, (FOUR,)), (lost, (((0, 0), (0, 0)),)), (lost, (TWO,)),
+        (all_nought, ([RIGHT, RIGHT],)), (all_nought, ([GREAT],)), (first_left, ([RIGHT, NEAR],)),
+        (stair_of, ([RIGHT, RIGHT],)), (stair_of, ([TWO],)), (stair_of, ([((1, -1), (1, -1))],)),
+        (stair_holds, ([RIGHT], [list(lines) for lines in STAIR])), (stair_holds, ([TWO], [[(1, 0)], []])),
+        (order_of, ([RIGHT, RIGHT],)), (order_of, ([TWO],)), (ring_of, ([((0, 1), (1, 0))],)), (ring_of, ([RIGHT],)),
+        (order_holds, ([RIGHT], (0, 1))), (order_holds, ([RIGHT], [0, 1])), (ring_holds, ([GREAT], (1,))),
     ]
+
+
+def lookers():
+    """Calls that tell of whatever is handed in, and what is handed in ahead of it."""
+    return [
+        (is_table, ()), (tables_wrong, ()), (stair_holds, ([RIGHT],)), (order_holds, ([RIGHT],)),
+        (ring_holds, ([GREAT, RIGHT],)),
+    ]
+
+
+def spoiled(thing):
+    """Does all sorts of things to the lists and dicts of what was told."""
+    if isinstance(thing, dict):
+        thing["more"] = 1
+    if isinstance(thing, list):
+        for one in thing:
+            spoiled(one)
+        thing.append("more")
+        thing[0] = None
 
 
 class TestNothingIsChanged(unittest.TestCase):
@@ -30,11 +61,20 @@ class TestNothingIsChanged(unittest.TestCase):
             self.assertEqual(kinds_in(handed), ahead)
 
     def test_whatever_is_handed_in_stays(self):
-        for call in (is_table, tables_wrong):
+        for call, handed in lookers():
             for thing in no_tables_at_all() + [[thing, TWO] for thing in whatever()]:
-                ahead = kinds_in(thing)
-                call(thing)
-                self.assertEqual(kinds_in(thing), ahead)
+                ahead = kinds_in((handed, thing))
+                self.assertIn(call(*handed, thing), (True, False, None, 0, -1))
+                self.assertEqual(kinds_in((handed, thing)), ahead)
+
+    def test_lists_told_are_the_askers_own(self):
+        for call, handed in questions():
+            told = call(*handed)
+            due = kinds_in(told)
+            ahead = kinds_in(handed)
+            spoiled(told)
+            self.assertEqual(kinds_in(handed), ahead)
+            self.assertEqual(kinds_in(call(*handed)), due)
 
     def test_what_is_done_to_the_list_behind_a_call_changes_nothing(self):
         tables = [TWO, ((0, 1), (1, 0))]
@@ -63,6 +103,9 @@ class TestSameAnswer(unittest.TestCase):
             refusal(self, NoTable, is_nought, None)
             refusal(self, NoTables, along, [TWO, THREE], (0,))
             refusal(self, NoWay, along, [TWO], (1,))
+            refusal(self, NoTable, lost, [TWO])
+            refusal(self, NoTables, stair_of, [RIGHT, None])
+            refusal(self, Below, order_of, [RIGHT, NEAR])
             self.assertEqual(kinds_in(call(*handed)), told)
 
     def test_refusals_again(self):

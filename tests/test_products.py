@@ -2,7 +2,7 @@
 
 import unittest
 
-from helper import FOUR, GREAT, LIMIT, ONE, THREE, TWO, no_tables_at_all, refusal
+from helper import FOUR, GREAT, LIMIT, ONE, THREE, TWO, no_tables_at_all, refusal, shut
 from noughtways.errors import NoTable
 from noughtways.tables import is_nought, product, turned
 
@@ -119,10 +119,6 @@ class TestTurned(unittest.TestCase):
     def test_what_is_no_table(self):
         for thing in no_tables_at_all() + [[TWO], ((1, 2, 3), (4, 5, 6))]:
             refusal(self, NoTable, turned, thing)
-
-
-def shut(rows):
-    return tuple([tuple(row) for row in rows])
 
 
 if __name__ == "__main__":
