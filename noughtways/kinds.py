@@ -1,14 +1,16 @@
-"""What the modules share: what is a whole number, a table, a list of tables, a way, and the refusals of what is none.
+"""What the modules share: what is a table, a way, a set and their like, the refusals of what is none, walks and fences.
 
 A grid is what a table is but for how great its numbers are: tables that were told may have numbers
 beyond, and every function but is_table and tables_wrong lets them by.
 """
 
-from noughtways.errors import Below, NoTable, NoTables, NoWay
+from noughtways.errors import Below, NoRest, NoSet, NoTable, NoTables, NoWay
 
 MOST_ROWS = 4
 MOST_TABLES = 4
 MOST_PLACES = 200
+LEAST_REST = 2
+MOST_REST = 7
 
 
 def is_whole(thing):
@@ -62,6 +64,14 @@ def is_way(thing, many):
     return are_places(thing, many) and len(thing) >= 1 and len(thing) <= MOST_PLACES
 
 
+def is_rising(things):
+    return all([things[k] < things[k + 1] for k in range(len(things) - 1)])
+
+
+def is_set(thing, size):
+    return are_places(thing, size) and is_rising(thing)
+
+
 # The refusals' words hold no number of a table: one with very many figures can't be written out.
 
 
@@ -81,7 +91,55 @@ def need_way(thing, many):
         raise NoWay("this is no way of these tables")
 
 
-def need_none_below(tables):
-    for at in range(len(tables)):
-        if any([number < 0 for number in numbers_of(tables[at])]):
+def need_way_or_none(thing, many):
+    if thing != ():
+        need_way(thing, many)
+
+
+def need_place(thing, many):
+    if not is_place(thing, many):
+        raise NoWay("there is no table at this place")
+
+
+def need_none_below(thing):
+    need_tables(thing)
+    for at in range(len(thing)):
+        if any([number < 0 for number in numbers_of(thing[at])]):
             raise Below(at)
+
+
+def need_set(thing, size):
+    if not is_set(thing, size):
+        raise NoSet("this is no set of places of rows")
+
+
+def need_rest(thing):
+    if not is_whole(thing) or thing < LEAST_REST or thing > MOST_REST:
+        raise NoRest("this is no rest number")
+
+
+# A walk begins with things that have ways of one length, in their order, and goes on by the tables' places
+# in theirs; so the first way that meets a thing is the shortest, and of such the least.
+def first_ways(begun, step, many):
+    ways = dict(begun)
+    fresh = list(begun)
+    while fresh != []:
+        later = []
+        for thing in fresh:
+            for at in range(many):
+                met = step(thing, at)
+                if met not in ways:
+                    ways[met] = ways[thing] + (at,)
+                    later.append(met)
+        fresh = later
+    return ways
+
+
+def is_fence(thing, fits, begun, step, many):
+    if not isinstance(thing, list) or not all([fits(one) for one in thing]) or not is_rising(thing):
+        return False
+    met = list(begun)
+    for one in thing:
+        met.extend([step(one, at) for at in range(many)])
+    kept = dict([(one, True) for one in thing])
+    return all([one in kept for one in met])

@@ -1,11 +1,6 @@
 """Orders and rings of places, of tables that have no number below 0."""
 
-from noughtways.kinds import are_places, need_none_below, need_tables
-
-
-def need_orderly(tables):
-    need_tables(tables)
-    need_none_below(tables)
+from noughtways.kinds import are_places, need_none_below
 
 
 def is_linked(tables, one, other):
@@ -20,7 +15,7 @@ def first_free(tables, places):
 
 
 def order_of(tables):
-    need_orderly(tables)
+    need_none_below(tables)
     order = ()
     left = list(range(len(tables[0])))
     while left != []:
@@ -43,7 +38,7 @@ def longer_rows(tables, rows):
 
 
 def ring_of(tables):
-    need_orderly(tables)
+    need_none_below(tables)
     rows = [(place,) for place in range(len(tables[0]))]
     while rows != []:
         for row in rows:
@@ -62,7 +57,7 @@ def links_back(tables, row, at):
 
 
 def order_holds(tables, thing):
-    need_orderly(tables)
+    need_none_below(tables)
     size = len(tables[0])
     if not are_unlike_places(thing, size) or len(thing) < size:
         return False
@@ -70,7 +65,7 @@ def order_holds(tables, thing):
 
 
 def ring_holds(tables, thing):
-    need_orderly(tables)
+    need_none_below(tables)
     if not are_unlike_places(thing, len(tables[0])) or len(thing) < 1:
         return False
     # Ahead of the first place, at -1, stands the last one.

@@ -152,3 +152,18 @@ def marked(table, i, j, number):
     rows = [list(row) for row in table]
     rows[i][j] = number
     return shut(rows)
+
+
+def all_marks(size):
+    """All tables of noughts and ones of a size."""
+    for numbers in itertools.product(range(2), repeat=size * size):
+        yield tuple([numbers[size * k:size * k + size] for k in range(size)])
+
+
+def bent_rows(row):
+    """Things of every kind in the place of a row and of each of its places."""
+    told = whatever() + [list(row), {place: place for place in row}, str(row), (row,), [row], deep(row, 18)]
+    for at, place in enumerate(row):
+        others = [None, bool(place), str(place), (place,), [place], {place: place}, -1, len(row), 10 ** 99]
+        told += [row[:at] + (other,) + row[at + 1:] for other in others]
+    return told

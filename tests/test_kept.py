@@ -4,13 +4,18 @@ import unittest
 
 from helper import FOUR, GREAT, LIMIT, ONE, THREE, TWO, kinds_in, no_tables_at_all, refusal, whatever
 from noughtways.allways import all_nought, first_left, stair_holds, stair_of
-from noughtways.errors import Below, NoTable, NoTables, NoWay
+from noughtways.errors import Below, NoLine, NoRest, NoSet, NoTable, NoTables, NoWay, TooGreat
+from noughtways.lines import led, lost_line, made_line
 from noughtways.orders import order_holds, order_of, ring_holds, ring_of
 from noughtways.ranks import determinant, line_of, lost, rank
+from noughtways.rests import barred_by, rest_along, rest_fence, rest_fence_holds, rest_table, rest_way
+from noughtways.signs import first_met, set_along, set_led, sets_met, sign_fence, sign_fence_holds, sign_way
 from noughtways.tables import along, is_nought, is_table, product, tables_wrong, turned
+from noughtways.twoways import fence_holds, fence_of, line_way, shortest
 
 NEAR = ((LIMIT - 1, 1 - LIMIT), (5, LIMIT - 1))
 RIGHT = ((0, 1), (0, 0))
+SWAP = ((0, 1), (1, 0))
 STAIR = [[(1, 0), (0, 1)], [(0, 1)]]
 
 
@@ -30,6 +35,16 @@ def questions():
         (stair_holds, ([RIGHT], [list(lines) for lines in STAIR])), (stair_holds, ([TWO], [[(1, 0)], []])),
         (order_of, ([RIGHT, RIGHT],)), (order_of, ([TWO],)), (ring_of, ([((0, 1), (1, 0))],)), (ring_of, ([RIGHT],)),
         (order_holds, ([RIGHT], (0, 1))), (order_holds, ([RIGHT], [0, 1])), (ring_holds, ([GREAT], (1,))),
+        (set_led, ([RIGHT, TWO], (0,), 1)), (set_along, ([RIGHT, TWO], (0, 1), (0, 1))), (sign_way, ([RIGHT, TWO],)),
+        (sign_fence, ([TWO, GREAT],)), (sign_fence, ([RIGHT],)), (sign_fence_holds, ([TWO], [(0, 1)])),
+        (sets_met, ([RIGHT],)), (sets_met, ([TWO],)), (first_met, ([RIGHT], (1,))), (first_met, ([TWO], (0,))),
+        (rest_table, (NEAR, 7)), (rest_along, ([NEAR, TWO], (0, 1, 1), 5)), (rest_way, ([RIGHT, NEAR], 3)),
+        (rest_way, ([SWAP], 2)), (rest_fence, ([SWAP], 2)), (rest_fence, ([NEAR], 7)), (rest_fence, ([RIGHT], 2)),
+        (rest_fence_holds, ([SWAP], 2, [SWAP, ((1, 0), (0, 1))])), (barred_by, ([NEAR],)), (barred_by, ([FOUR],)),
+        (led, (TWO, (1, -1))), (led, (RIGHT, (0, 1))), (lost_line, (RIGHT,)), (made_line, (((2, 3), (4, 6)),)),
+        (shortest, ([RIGHT, SWAP], 12)), (shortest, ([NEAR], 12)), (line_way, ([NEAR, RIGHT], (1, 2), 6)),
+        (fence_of, ([SWAP, ((1, 2), (1, 2))], 9)), (fence_of, ([NEAR], 1)), (fence_of, ([RIGHT], 60)),
+        (fence_holds, ([SWAP], [(0, 1), (1, 0)])), (fence_holds, ([RIGHT], [])),
     ]
 
 
@@ -37,7 +52,8 @@ def lookers():
     """Calls that tell of whatever is handed in, and what is handed in ahead of it."""
     return [
         (is_table, ()), (tables_wrong, ()), (stair_holds, ([RIGHT],)), (order_holds, ([RIGHT],)),
-        (ring_holds, ([GREAT, RIGHT],)),
+        (ring_holds, ([GREAT, RIGHT],)), (sign_fence_holds, ([SWAP],)), (rest_fence_holds, ([SWAP], 3)),
+        (fence_holds, ([SWAP, NEAR],)),
     ]
 
 
@@ -106,6 +122,10 @@ class TestSameAnswer(unittest.TestCase):
             refusal(self, NoTable, lost, [TWO])
             refusal(self, NoTables, stair_of, [RIGHT, None])
             refusal(self, Below, order_of, [RIGHT, NEAR])
+            refusal(self, NoSet, first_met, [TWO], [0])
+            refusal(self, NoRest, rest_fence, [TWO], 8)
+            refusal(self, TooGreat, rest_way, [FOUR], 2)
+            refusal(self, NoLine, line_way, [TWO], (2, 0), 12)
             self.assertEqual(kinds_in(call(*handed)), told)
 
     def test_refusals_again(self):

@@ -3,8 +3,8 @@
 import itertools
 import unittest
 
-from helper import FOUR, GREAT, ONE, THREE, TWO, deep, drawer, drawn, kinds_in, marked, refusal, refuses_tables, units
-from helper import way_product, ways_of, whatever
+from helper import FOUR, GREAT, ONE, THREE, TWO, all_marks, bent_rows, drawer, drawn, kinds_in, marked, refusal
+from helper import refuses_tables, units, way_product, ways_of
 from noughtways.allways import all_nought, stair_holds
 from noughtways.errors import Below, NoTables
 from noughtways.orders import order_holds, order_of, ring_holds, ring_of
@@ -67,11 +67,6 @@ def some_lists():
                                          if numbers[i] < numbers[j] and draw.randint(0, 1)]) for at in range(many)])
             told.append([drawn(draw, size, 0, 1)])
     return told
-
-
-def all_marks(size):
-    for numbers in itertools.product(range(2), repeat=size * size):
-        yield tuple([numbers[size * k:size * k + size] for k in range(size)])
 
 
 def rows_of(size):
@@ -181,15 +176,6 @@ class TestRingHolds(unittest.TestCase):
             self.assertIs(ring_holds(tables, row), True)
             for thing in bent_rows(row):
                 self.assertIs(ring_holds(tables, thing), False, thing)
-
-
-def bent_rows(row):
-    """Things of every kind in the place of a row and of each of its places."""
-    told = whatever() + [list(row), {place: place for place in row}, str(row), (row,), [row], deep(row, 18)]
-    for at, place in enumerate(row):
-        others = [None, bool(place), str(place), (place,), [place], {place: place}, -1, len(row), 10 ** 99]
-        told += [row[:at] + (other,) + row[at + 1:] for other in others]
-    return told
 
 
 class TestRefusals(unittest.TestCase):
