@@ -36,13 +36,16 @@ def rows_led(tables, lines):
 
 def stair_of(tables):
     need_tables(tables)
-    size = len(tables[0])
     stair = []
-    lines = unit_lines(size)
-    while lines != [] and len(stair) < size:
+    lines = unit_lines(len(tables[0]))
+    while lines != []:
         stair.append(lines)
-        lines = steps_of(rows_led(tables, lines))
-    return stair if lines == [] else None
+        later = steps_of(rows_led(tables, lines))
+        # Each list spans a part of what the one ahead of it does: where it is the whole, nothing is ever lost.
+        if len(later) == len(lines):
+            return None
+        lines = later
+    return stair
 
 
 def are_lines(thing, size):

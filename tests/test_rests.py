@@ -349,6 +349,14 @@ class TestRestFenceHolds(unittest.TestCase):
             if m > 2:
                 self.holds([((1,),)], m, [((1,),), ((m - 1,),)], True)
 
+    def test_each_number_from_nought_to_one_less_than_m(self):
+        for m in RESTS:
+            for stay in (((1, 0), (0, 1)), STAY_THREE, STAY_FOUR):
+                for i, j in itertools.product(range(len(stay)), repeat=2):
+                    for number in (-m, -1, 0, 1, m - 1, m, m + 1, 10 ** 99):
+                        table = marked(stay, i, j, number)
+                        self.holds([stay], m, sorted({stay, table}), 0 <= number < m)
+
     def test_tables_of_another_size(self):
         self.holds([SWAP], 2, [((0, 1), (1, 0)), ((1,),)], False)
         self.holds([((1,),)], 2, [((0, 1), (1, 0)), ((1,),)], False)

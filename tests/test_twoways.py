@@ -130,6 +130,17 @@ class TestShortest(unittest.TestCase):
         self.assertEqual(shortest([UPPER, UPPER, SWAP, SWAP], 12), (0, 2, 0))
         self.assertEqual(shortest([SWAP, UPPER, UPPER, SWAP], 12), (1, 0, 1))
 
+    def test_the_first_of_many_that_lead_the_same_lines(self):
+        twice, thrice = ((2, 0), (0, 1)), ((3, 0), (0, 1))
+        for one, other in itertools.product(range(4), repeat=2):
+            last = losing(line_of((2 ** one * 3 ** other, 1)), (1, 1))
+            for tables in itertools.permutations((twice, thrice, last)):
+                first, then, end = [tables.index(table) for table in (twice, thrice, last)]
+                due = (end,) + tuple(sorted([first] * one + [then] * other)) + (end,)
+                self.assertEqual(shortest(list(tables), 12), due)
+                self.assertEqual(line_way(list(tables), (1, 1), 12), due[1:])
+                self.assertEqual(line_way(list(tables), (0, 1), 12), due)
+
     def test_no_places_at_most(self):
         for tables in ([NONE], [RIGHT], [STAY]):
             self.assertIsNone(shortest(tables, 0))
