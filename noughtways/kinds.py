@@ -1,10 +1,10 @@
-"""What the modules share: what is a table, a way, a set and their like, the refusals of what is none, walks and fences.
+"""What the modules share: what is a table, a way, a set and their like, refusals of what is none, walks and fences.
 
 A grid is what a table is but for how great its numbers are: tables that were told may have numbers
 beyond, and every function but is_table and tables_wrong lets them by.
 """
 
-from noughtways.errors import Below, NoRest, NoSet, NoTable, NoTables, NoWay
+from noughtways.errors import Below, NoRest, NoRow, NoSet, NoTable, NoTables, NoWay
 
 MOST_ROWS = 4
 MOST_TABLES = 4
@@ -113,25 +113,52 @@ def need_set(thing, size):
         raise NoSet("this is no set of places of rows")
 
 
+def need_row(thing, size):
+    if not is_row(thing, size):
+        raise NoRow("this is no row of these tables")
+
+
 def need_rest(thing):
     if not is_whole(thing) or thing < LEAST_REST or thing > MOST_REST:
         raise NoRest("this is no rest number")
 
 
+def power_of(number, often):
+    told = 1
+    for turn in range(often):
+        told = told * number
+    return told
+
+
+# They rise where the parts do.
+def all_tuples(parts, size):
+    told = [()]
+    for place in range(size):
+        longer = []
+        for one in told:
+            longer.extend([one + (part,) for part in parts])
+        told = longer
+    return told
+
+
 # A walk begins with things that have ways of one length, in their order, and goes on by the tables' places
 # in theirs; so the first way that meets a thing is the shortest, and of such the least.
+def walked_on(ways, fresh, step, many):
+    later = []
+    for thing in fresh:
+        for at in range(many):
+            met = step(thing, at)
+            if met not in ways:
+                ways[met] = ways[thing] + (at,)
+                later.append(met)
+    return later
+
+
 def first_ways(begun, step, many):
     ways = dict(begun)
     fresh = list(begun)
     while fresh != []:
-        later = []
-        for thing in fresh:
-            for at in range(many):
-                met = step(thing, at)
-                if met not in ways:
-                    ways[met] = ways[thing] + (at,)
-                    later.append(met)
-        fresh = later
+        fresh = walked_on(ways, fresh, step, many)
     return ways
 
 

@@ -2,7 +2,7 @@
 
 from noughtways.errors import TooGreat
 from noughtways.kinds import LEAST_REST, MOST_REST, first_ways, is_fence, is_grid, need_rest, need_table, need_tables
-from noughtways.kinds import numbers_of
+from noughtways.kinds import numbers_of, power_of
 from noughtways.tables import along, times
 
 MOST_REST_TABLES = 3000
@@ -34,10 +34,7 @@ def rest_along(tables, way, m):
 
 
 def rest_tables_many(size, m):
-    many = 1
-    for number in range(size * size):
-        many = many * m
-    return many
+    return power_of(m, size * size)
 
 
 def need_few_rest_tables(size, m):
@@ -74,11 +71,12 @@ def rest_fence(tables, m):
     return None if nought_of(len(tables[0])) in met else met
 
 
-def is_left_rest_table(thing, size, m):
-    if not is_grid(thing) or len(thing) != size:
-        return False
-    numbers = numbers_of(thing)
+def are_left_rests(numbers, m):
     return any(numbers) and all([number >= 0 and number < m for number in numbers])
+
+
+def is_left_rest_table(thing, size, m):
+    return is_grid(thing) and len(thing) == size and are_left_rests(numbers_of(thing), m)
 
 
 def rest_fence_holds(tables, m, thing):

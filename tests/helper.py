@@ -3,7 +3,7 @@
 import itertools
 import random
 
-from noughtways.errors import NoTable, NoTables
+from noughtways.errors import Below, NoTable, NoTables
 
 LIMIT = 10 ** 12
 
@@ -91,6 +91,59 @@ def refuses_table(case, call, *behind):
         refusal(case, NoTable, call, thing, *behind)
 
 
+def below(case, at, call, tables, *behind):
+    error = refusal(case, Below, call, tables, *behind)
+    case.assertEqual(kinds_in(error.at), (int, at))
+
+
+def refuses_below(case, call, *behind):
+    """Tables with a number below 0 are refused ahead of what is handed in behind them, but behind what is no table."""
+    for table in (ONE, TWO, THREE, FOUR, GREAT):
+        for i, j in itertools.product(range(len(table)), repeat=2):
+            low = marked(table, i, j, -1)
+            below(case, 0, call, [low], *behind)
+            below(case, 0, call, [low, table, low], *behind)
+            below(case, 1, call, [table, marked(table, i, j, -(10 ** 99))], *behind)
+            below(case, 2, call, [table, table, low, low], *behind)
+            below(case, 3, call, [table, table, table, low], *behind)
+    low = marked(TWO, 0, 1, -4)
+    for tables, at in (([low, None], 1), ([low, TWO, ONE], 2), ([low, low, low, []], 3), ([low] * 5, -1)):
+        case.assertEqual(refusal(case, NoTables, call, tables, *behind).at, at)
+
+
+def wrong_places(many):
+    """Things that are no place in a list of so many."""
+    things = [thing for thing in whatever() if kinds_in(thing) not in [(int, at) for at in range(many)]]
+    return things + [many, many + 1, -1, -many, (0,), [0], True, False, "0", None, 10 ** 99]
+
+
+def wrong_ways_or_none(many):
+    """Things that are no way of so many tables, nor ()."""
+    things = [thing for thing in whatever() if thing != ()]
+    return things + [[], [0], (many,), (-1,), (0, many), (True,), (False,), (0, None), (0,) * 201, {}, "", ((),),
+                     (0, (0,)), ("0",), (0,) * 199 + (many,), (0, True), (0, 10 ** 99), {0: 0}]
+
+
+def wrong_ways(many):
+    return wrong_ways_or_none(many) + [()]
+
+
+def wrong_rests():
+    told = [thing for thing in whatever() if kinds_in(thing) != (int, 3)]
+    return told + [0, 1, 8, 9, -2, -7, 10 ** 99, True, False, "2", "7", (2,), [2], {2: 2}, None]
+
+
+def wrong_rows(size):
+    """Things that are no row of so many numbers."""
+    row = (1, 0, -2, 10 ** 20)[:size]
+    told = whatever() + [row + (0,), row[1:], row + row, (row,), [row], list(row), {at: at for at in row}, str(row),
+                         (0,) * (size + 1), deep(row, 18)]
+    for at in range(size):
+        for other in (None, True, False, "1", "", (1,), [0], {}, ()):
+            told.append(row[:at] + (other,) + row[at + 1:])
+    return told
+
+
 def shut(rows):
     return tuple([tuple(row) for row in rows])
 
@@ -145,6 +198,18 @@ def fading(draw, size, many):
         steps = [[draw.randint(-2, 2) if j > i else 0 for j in range(size)] for i in range(size)]
         tables.append(times(times(shut(back), shut(steps)), shut(there)))
     return tables
+
+
+def nought(size):
+    return ((0,) * size,) * size
+
+
+def thinned(draw, size):
+    """A table with few numbers other than 0, none below 0."""
+    table = nought(size)
+    for often in range(size):
+        table = marked(table, draw.randrange(size), draw.randrange(size), draw.choice((1, 3, 10 ** 11)))
+    return table
 
 
 def marked(table, i, j, number):

@@ -4,11 +4,14 @@ import unittest
 
 from helper import FOUR, GREAT, LIMIT, ONE, THREE, TWO, kinds_in, no_tables_at_all, refusal, whatever
 from noughtways.allways import all_nought, first_left, stair_holds, stair_of
-from noughtways.errors import Below, NoLine, NoRest, NoSet, NoTable, NoTables, NoWay, TooGreat
+from noughtways.counts import always_from, ever, fresh_many, left_sets, share, way_at, way_number, ways_many
+from noughtways.errors import Below, NoLine, NoRest, NoRow, NoSet, NoTable, NoTables, NoWay, TooGreat
 from noughtways.lines import led, lost_line, made_line
+from noughtways.marks import alike_marks, all_marks, fading, fading_many, kinds_many, mark_of
 from noughtways.orders import order_holds, order_of, ring_holds, ring_of
 from noughtways.ranks import determinant, line_of, lost, rank
 from noughtways.rests import barred_by, rest_along, rest_fence, rest_fence_holds, rest_table, rest_way
+from noughtways.rowways import column_holds, column_of, lost_by, lost_in, row_along, row_fence, row_fence_holds, row_led
 from noughtways.signs import first_met, set_along, set_led, sets_met, sign_fence, sign_fence_holds, sign_way
 from noughtways.tables import along, is_nought, is_table, product, tables_wrong, turned
 from noughtways.twoways import fence_holds, fence_of, line_way, shortest
@@ -16,6 +19,7 @@ from noughtways.twoways import fence_holds, fence_of, line_way, shortest
 NEAR = ((LIMIT - 1, 1 - LIMIT), (5, LIMIT - 1))
 RIGHT = ((0, 1), (0, 0))
 SWAP = ((0, 1), (1, 0))
+STAY = ((1, 0), (0, 1))
 STAIR = [[(1, 0), (0, 1)], [(0, 1)]]
 
 
@@ -45,6 +49,16 @@ def questions():
         (shortest, ([RIGHT, SWAP], 12)), (shortest, ([NEAR], 12)), (line_way, ([NEAR, RIGHT], (1, 2), 6)),
         (fence_of, ([SWAP, ((1, 2), (1, 2))], 9)), (fence_of, ([NEAR], 1)), (fence_of, ([RIGHT], 60)),
         (fence_holds, ([SWAP], [(0, 1), (1, 0)])), (fence_holds, ([RIGHT], [])),
+        (row_led, ([TWO, NEAR], (1, -2), 1)), (row_along, ([TWO, NEAR], (1, -2), (0, 1))),
+        (row_along, ([TWO], (3, 4), ())),
+        (lost_in, ([RIGHT, NEAR], (1, 1), 4)), (lost_in, ([NEAR], (1, 1), 2)), (lost_by, ([RIGHT, SWAP], (1, 5), 3)),
+        (row_fence, ([SWAP], (1, 5), 3)), (row_fence, ([RIGHT], (1, 5), 3)),
+        (row_fence_holds, ([SWAP], (1, 1), 2, [(1, 1)])), (column_holds, ([SWAP], (1, 0), (1, 1))), (column_of, ([SWAP], (1, 0))), (column_of, ([NEAR], (1, 0))),
+        (ways_many, ([RIGHT, SWAP], 9)), (fresh_many, ([RIGHT, SWAP], 9)), (left_sets, ([RIGHT, SWAP], 9)),
+        (way_at, ([RIGHT, SWAP], 4, 3)), (way_number, ([RIGHT, SWAP], (0, 0, 1))), (always_from, ([RIGHT],)),
+        (always_from, ([GREAT],)), (ever, ([RIGHT, GREAT],)), (share, ([RIGHT, SWAP], 9)),
+        (all_marks, (2,)), (mark_of, (GREAT,)), (fading, (2,)), (fading_many, (8,)), (alike_marks, (2,)),
+        (kinds_many, (3,)),
     ]
 
 
@@ -53,7 +67,7 @@ def lookers():
     return [
         (is_table, ()), (tables_wrong, ()), (stair_holds, ([RIGHT],)), (order_holds, ([RIGHT],)),
         (ring_holds, ([GREAT, RIGHT],)), (sign_fence_holds, ([SWAP],)), (rest_fence_holds, ([SWAP], 3)),
-        (fence_holds, ([SWAP, NEAR],)),
+        (fence_holds, ([SWAP, NEAR],)), (row_fence_holds, ([SWAP], (1, 1), 3)), (column_holds, ([SWAP, STAY], (1, 1))),
     ]
 
 
@@ -126,6 +140,9 @@ class TestSameAnswer(unittest.TestCase):
             refusal(self, NoRest, rest_fence, [TWO], 8)
             refusal(self, TooGreat, rest_way, [FOUR], 2)
             refusal(self, NoLine, line_way, [TWO], (2, 0), 12)
+            refusal(self, NoRow, row_fence, [TWO], [2, 0], 2)
+            refusal(self, NoWay, way_at, [RIGHT], 3, 1)
+            refusal(self, Below, mark_of, NEAR)
             self.assertEqual(kinds_in(call(*handed)), told)
 
     def test_refusals_again(self):

@@ -3,10 +3,9 @@
 import itertools
 import unittest
 
-from helper import FOUR, GREAT, ONE, THREE, TWO, all_marks, bent_rows, drawer, drawn, kinds_in, marked, refusal
+from helper import FOUR, GREAT, ONE, TWO, all_marks, bent_rows, drawer, drawn, kinds_in, marked, refuses_below
 from helper import refuses_tables, units, way_product, ways_of
 from noughtways.allways import all_nought, stair_holds
-from noughtways.errors import Below, NoTables
 from noughtways.orders import order_holds, order_of, ring_holds, ring_of
 
 RIGHT = ((0, 1), (0, 0))
@@ -183,31 +182,13 @@ class TestRefusals(unittest.TestCase):
     calls = ((order_of, ()), (ring_of, ()), (order_holds, ((0, 1),)), (order_holds, (None,)),
              (ring_holds, ((0,),)), (ring_holds, ([],)))
 
-    def test_below(self):
+    def test_below_behind_no_tables(self):
         for call, behind in self.calls:
-            for table in (ONE, TWO, THREE, FOUR, GREAT):
-                size = len(table)
-                for i, j in itertools.product(range(size), repeat=2):
-                    low = marked(table, i, j, -1)
-                    self.below(0, call, [low], behind)
-                    self.below(0, call, [low, low], behind)
-                    self.below(1, call, [table, low], behind)
-                    self.below(2, call, [table, table, low, low], behind)
-                    self.below(3, call, [table, table, table, marked(table, i, j, -(10 ** 99))], behind)
-
-    def below(self, at, call, tables, behind):
-        error = refusal(self, Below, call, tables, *behind)
-        self.assertEqual(kinds_in(error.at), (int, at))
+            refuses_below(self, call, *behind)
 
     def test_no_tables(self):
         for call, behind in self.calls:
             refuses_tables(self, call, *behind)
-
-    def test_no_tables_ahead_of_below(self):
-        low = marked(TWO, 1, 1, -4)
-        for call, behind in self.calls:
-            for tables, at in (([low, None], 1), ([low, TWO, ONE], 2), ([low, low, low, []], 3), ([low] * 5, -1)):
-                self.assertEqual(refusal(self, NoTables, call, tables, *behind).at, at)
 
 
 class TestStairOfAnOrder(unittest.TestCase):

@@ -5,7 +5,7 @@ import math
 import unittest
 from fractions import Fraction
 
-from helper import FOUR, GREAT, LIMIT, ONE, THREE, TWO, drawer, drawn, kinds_in, refuses_table, row_led, shut
+from helper import FOUR, GREAT, LIMIT, THREE, TWO, drawer, drawn, kinds_in, refuses_table, row_led, shut
 from helper import times, units
 from noughtways.ranks import determinant, line_of, lost, rank
 from noughtways.tables import product, turned

@@ -4,7 +4,7 @@ import itertools
 import unittest
 
 from helper import FOUR, GREAT, LIMIT, ONE, THREE, TWO, deep, drawer, drawn, fading, kinds_in, marked, refusal
-from helper import refuses_table, refuses_tables, shut, times, way_product, ways_of, whatever
+from helper import nought, refuses_table, refuses_tables, shut, times, way_product, ways_of, whatever, wrong_rests
 from noughtways.errors import NoRest, NoTable, NoTables, NoWay, TooGreat
 from noughtways.rests import barred_by, rest_along, rest_fence, rest_fence_holds, rest_table, rest_way
 from noughtways.tables import along
@@ -32,10 +32,6 @@ def rests(table, m):
     return shut([[number % m for number in row] for row in table])
 
 
-def nought(size):
-    return ((0,) * size,) * size
-
-
 def ways_by_rests(tables, m):
     """Each table of rests that is met, with its first way, found by going on till nothing new is met."""
     told = {}
@@ -57,11 +53,6 @@ def first_by_all(tables, m, most):
             if rests(way_product(tables, way), m) == nought(len(tables[0])):
                 return way
     return None
-
-
-def wrong_rests():
-    told = [thing for thing in whatever() if kinds_in(thing) != (int, 3)]
-    return told + [0, 1, 8, 9, -2, -7, 10 ** 99, True, False, "2", "7", (2,), [2], {2: 2}, None]
 
 
 def some_lists():

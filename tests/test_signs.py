@@ -3,9 +3,10 @@
 import itertools
 import unittest
 
-from helper import FOUR, GREAT, ONE, THREE, TWO, all_marks, bent_rows, deep, drawer, drawn, kinds_in, marked, refusal
-from helper import refuses_tables, shut, way_product, ways_of, whatever
-from noughtways.errors import Below, NoSet, NoTables, NoWay
+from helper import FOUR, GREAT, ONE, THREE, TWO, all_marks, bent_rows, deep, drawer, drawn, kinds_in, refusal
+from helper import refuses_below, refuses_tables, shut, thinned, way_product, ways_of, whatever, wrong_places
+from helper import wrong_ways_or_none
+from noughtways.errors import NoSet, NoWay
 from noughtways.signs import first_met, set_along, set_led, sets_met, sign_fence, sign_fence_holds, sign_way
 
 RIGHT = ((0, 1), (0, 0))
@@ -54,21 +55,8 @@ def some_lists():
     return told
 
 
-def thinned(draw, size):
-    """A table with few numbers other than 0."""
-    table = ((0,) * size,) * size
-    for often in range(size):
-        table = marked(table, draw.randrange(size), draw.randrange(size), draw.choice((1, 3, 10 ** 11)))
-    return table
-
-
 def pairs_of_marks():
     return [[one, other] for one in all_marks(2) for other in all_marks(2)]
-
-
-def below(case, at, call, tables, *handed):
-    error = refusal(case, Below, call, tables, *handed)
-    case.assertEqual(kinds_in(error.at), (int, at))
 
 
 def wrong_sets(size):
@@ -114,8 +102,7 @@ class TestSetLed(unittest.TestCase):
     def test_what_is_no_place_in_the_list(self):
         for many in range(1, 5):
             tables = [TWO] * many
-            things = [thing for thing in whatever() if kinds_in(thing) not in [(int, at) for at in range(many)]]
-            for thing in things + [many, many + 1, -1, -many, (0,), [0], True, False, "0", None, 10 ** 99]:
+            for thing in wrong_places(many):
                 refusal(self, NoWay, set_led, tables, (0,), thing)
                 refusal(self, NoWay, set_led, tables, (), thing)
             self.assertEqual(set_led(tables, (1,), many - 1), (0, 1))
@@ -144,9 +131,7 @@ class TestSetAlong(unittest.TestCase):
     def test_what_is_no_way(self):
         for many in range(1, 4):
             tables = [TWO] * many
-            things = [thing for thing in whatever() if thing != ()]
-            for thing in things + [[], [0], (many,), (-1,), (0, many), (True,), (False,), (0, None), (0,) * 201, {}, "",
-                                   ((),), (0, (0,)), ("0",), (0,) * 199 + (many,)]:
+            for thing in wrong_ways_or_none(many):
                 refusal(self, NoWay, set_along, tables, (0,), thing)
                 refusal(self, NoWay, set_along, tables, (), thing)
         self.assertEqual(set_along([TWO], (0,), (0,) * 200), (0, 1))
@@ -162,21 +147,9 @@ class TestRefusals(unittest.TestCase):
         for call, handed in self.calls:
             refuses_tables(self, call, *handed)
 
-    def test_no_tables_ahead_of_below(self):
-        low = marked(TWO, 0, 1, -4)
+    def test_below_behind_no_tables(self):
         for call, handed in self.calls:
-            for tables, at in (([low, None], 1), ([low, TWO, ONE], 2), ([low, low, low, []], 3), ([low] * 5, -1)):
-                self.assertEqual(refusal(self, NoTables, call, tables, *handed).at, at)
-
-    def test_below(self):
-        for call, handed in self.calls:
-            for table in (ONE, TWO, THREE, FOUR, GREAT):
-                for i, j in itertools.product(range(len(table)), repeat=2):
-                    low = marked(table, i, j, -1)
-                    below(self, 0, call, [low], *handed)
-                    below(self, 0, call, [low, table, low], *handed)
-                    below(self, 1, call, [table, marked(table, i, j, -(10 ** 99))], *handed)
-                    below(self, 3, call, [table, table, table, low], *handed)
+            refuses_below(self, call, *handed)
 
 
 class TestSignWay(unittest.TestCase):
