@@ -31,6 +31,7 @@ EXPRESSIONS = (
 PLAIN = (ast.Constant, ast.List, ast.Tuple, ast.Dict, ast.UnaryOp)
 WALKED = set("zip enumerate reversed range items keys values".split())
 WALKERS = set("list tuple dict sorted sum any all enumerate zip min max".split())
+READERS = set("get items keys values index count".split())
 KEYWORDS = {"sorted": {"key", "reverse"}, "min": {"key", "default"}, "max": {"key", "default"},
             "sum": {"start"}, "enumerate": {"start"}, "zip": {"strict"}}
 
@@ -66,6 +67,15 @@ def bound_in(node):
     if isinstance(node, ast.ExceptHandler) and node.name:
         return [node.name]
     return []
+
+
+def is_read(above, node):
+    """Whether a list or dict of a file's top is only read where it stands."""
+    if isinstance(above, ast.Subscript):
+        return above.value == node and isinstance(above.ctx, ast.Load)
+    if isinstance(above, ast.Attribute):
+        return above.attr in READERS
+    return isinstance(above, (ast.Compare, ast.For, ast.comprehension)) or called(above) in WALKERS | {"len"}
 
 
 class TestForm(unittest.TestCase):
@@ -198,6 +208,44 @@ class TestForm(unittest.TestCase):
                     names.append(node.targets[0].id)
                 names.extend(bound_in(node))
             self.assertEqual(len(names), len(set(names)), file)
+
+    def test_lists_and_dicts_of_the_top_are_only_read(self):
+        for file, tree in self.trees.items():
+            kept = [node.targets[0].id for node in tree.body
+                    if isinstance(node, ast.Assign) and isinstance(node.value, (ast.List, ast.Dict))]
+            for node in tree.body:
+                if isinstance(node, ast.Assign):
+                    within = [one for one in ast.walk(node.value) if isinstance(one, (ast.List, ast.Dict))]
+                    self.assertLessEqual(len(within), 1, file)
+            for above in ast.walk(tree):
+                for node in ast.iter_child_nodes(above):
+                    if isinstance(node, ast.Name) and node.id in kept and isinstance(node.ctx, ast.Load):
+                        self.assertTrue(is_read(above, node), f"{file.name}:{node.lineno}")
+
+    def test_methods_and_values_have_unlike_names(self):
+        methods, values = set(), set()
+        for where, node in self.walked():
+            if isinstance(node, ast.ClassDef):
+                named = [part.name for part in node.body if isinstance(part, ast.FunctionDef)]
+                self.assertEqual(len(named), len(set(named)), where)
+                methods.update(named)
+            if isinstance(node, ast.Attribute) and isinstance(node.ctx, ast.Store):
+                values.add(node.attr)
+        self.assertEqual(methods & values, set())
+        self.assertEqual((methods | values) & METHODS, set())
+
+    def test_no_annotations_and_no_handlers(self):
+        for where, node in self.walked():
+            self.assertNotIsInstance(node, ast.ExceptHandler, where)
+            if isinstance(node, ast.arg):
+                self.assertIsNone(node.annotation, where)
+            if isinstance(node, ast.FunctionDef):
+                self.assertIsNone(node.returns, where)
+
+    def test_lambdas_of_one_line_have_unlike_parameters(self):
+        for file, tree in self.trees.items():
+            seen = [(node.lineno, ast.unparse(node.args)) for node in ast.walk(tree) if isinstance(node, ast.Lambda)]
+            self.assertEqual(len(seen), len(set(seen)), file)
 
     def test_imports(self):
         draws = {}

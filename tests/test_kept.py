@@ -4,8 +4,10 @@ import unittest
 
 from helper import FOUR, GREAT, LIMIT, ONE, THREE, TWO, kinds_in, no_tables_at_all, refusal, whatever
 from noughtways.allways import all_nought, first_left, stair_holds, stair_of
+from noughtways.changes import beside, changed, joined, powered, spread, turned_all, undone, way_back
 from noughtways.counts import always_from, ever, fresh_many, left_sets, share, way_at, way_number, ways_many
-from noughtways.errors import Below, NoLine, NoRest, NoRow, NoSet, NoTable, NoTables, NoWay, TooGreat
+from noughtways.desk import Desk
+from noughtways.errors import Below, NoLine, NoRest, NoRow, NoSet, NoTable, NoTables, NoText, NoWay, TooGreat
 from noughtways.lines import led, lost_line, made_line
 from noughtways.marks import alike_marks, all_marks, fading, fading_many, kinds_many, mark_of
 from noughtways.orders import order_holds, order_of, ring_holds, ring_of
@@ -13,7 +15,9 @@ from noughtways.ranks import determinant, line_of, lost, rank
 from noughtways.rests import barred_by, rest_along, rest_fence, rest_fence_holds, rest_table, rest_way
 from noughtways.rowways import column_holds, column_of, lost_by, lost_in, row_along, row_fence, row_fence_holds, row_led
 from noughtways.signs import first_met, set_along, set_led, sets_met, sign_fence, sign_fence_holds, sign_way
+from noughtways.small import longest, pair_lengths
 from noughtways.tables import along, is_nought, is_table, product, tables_wrong, turned
+from noughtways.texts import table_read, table_shown, tables_read, tables_shown
 from noughtways.twoways import fence_holds, fence_of, line_way, shortest
 
 NEAR = ((LIMIT - 1, 1 - LIMIT), (5, LIMIT - 1))
@@ -53,12 +57,18 @@ def questions():
         (row_along, ([TWO], (3, 4), ())),
         (lost_in, ([RIGHT, NEAR], (1, 1), 4)), (lost_in, ([NEAR], (1, 1), 2)), (lost_by, ([RIGHT, SWAP], (1, 5), 3)),
         (row_fence, ([SWAP], (1, 5), 3)), (row_fence, ([RIGHT], (1, 5), 3)),
-        (row_fence_holds, ([SWAP], (1, 1), 2, [(1, 1)])), (column_holds, ([SWAP], (1, 0), (1, 1))), (column_of, ([SWAP], (1, 0))), (column_of, ([NEAR], (1, 0))),
+        (row_fence_holds, ([SWAP], (1, 1), 2, [(1, 1)])), (column_holds, ([SWAP], (1, 0), (1, 1))),
+        (column_of, ([SWAP], (1, 0))), (column_of, ([NEAR], (1, 0))),
         (ways_many, ([RIGHT, SWAP], 9)), (fresh_many, ([RIGHT, SWAP], 9)), (left_sets, ([RIGHT, SWAP], 9)),
         (way_at, ([RIGHT, SWAP], 4, 3)), (way_number, ([RIGHT, SWAP], (0, 0, 1))), (always_from, ([RIGHT],)),
         (always_from, ([GREAT],)), (ever, ([RIGHT, GREAT],)), (share, ([RIGHT, SWAP], 9)),
         (all_marks, (2,)), (mark_of, (GREAT,)), (fading, (2,)), (fading_many, (8,)), (alike_marks, (2,)),
         (kinds_many, (3,)),
+        (turned_all, ([TWO, SWAP],)), (way_back, ([TWO, SWAP], (0, 1, 1))), (undone, (SWAP,)), (undone, (NEAR,)),
+        (changed, ([TWO, NEAR], SWAP)), (changed, ([TWO], STAY)), (beside, ([TWO, SWAP], [GREAT, NEAR])),
+        (joined, ([TWO, SWAP], [GREAT])), (powered, ([TWO, NEAR], 1, 6)), (powered, ([TWO, NEAR], 0, 1)),
+        (spread, ([TWO, NEAR], 1, 3, (0, 1))), (pair_lengths, (1,)), (longest, (2, 2)), (longest, (1, 1)),
+        (table_shown, (NEAR,)), (table_read, ("1 2/3 -4",)), (tables_shown, ([TWO, NEAR],)), (tables_read, ("1\n-2",)),
     ]
 
 
@@ -106,6 +116,14 @@ class TestNothingIsChanged(unittest.TestCase):
             self.assertEqual(kinds_in(handed), ahead)
             self.assertEqual(kinds_in(call(*handed)), due)
 
+    def test_what_is_done_to_what_was_handed_in_changes_nothing(self):
+        for call, handed in questions():
+            due = kinds_in(call(*handed))
+            told = call(*handed)
+            for thing in handed:
+                spoiled(thing)
+            self.assertEqual(kinds_in(told), due, call)
+
     def test_what_is_done_to_the_list_behind_a_call_changes_nothing(self):
         tables = [TWO, ((0, 1), (1, 0))]
         told = along(tables, (0, 1))
@@ -143,6 +161,10 @@ class TestSameAnswer(unittest.TestCase):
             refusal(self, NoRow, row_fence, [TWO], [2, 0], 2)
             refusal(self, NoWay, way_at, [RIGHT], 3, 1)
             refusal(self, Below, mark_of, NEAR)
+            refusal(self, NoTable, changed, [TWO], TWO)
+            refusal(self, TooGreat, joined, [TWO] * 3, [TWO] * 2)
+            refusal(self, NoText, tables_read, "1\n1 1/1 1")
+            refusal(self, NoRow, Desk().say, "drop")
             self.assertEqual(kinds_in(call(*handed)), told)
 
     def test_refusals_again(self):
